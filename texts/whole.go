@@ -39,27 +39,17 @@ func tee(r *tool.Run) int {
 	if !ok {
 		status = 1
 	}
-	flags := api.OpenWrite | api.OpenCreate | api.OpenCut
+	how := api.OpenCut
 	if tool.Given(options, 'a') {
-		flags = api.OpenWrite | api.OpenCreate | api.OpenAppend
+		how = api.OpenAppend
 	}
 	for _, path := range operands {
-		if err := writeFile(r, path, flags, text); err != api.OK {
+		if err := r.WriteFile(path, text, how, 438); err != api.OK {
 			r.Complain(path, err)
 			status = 1
 		}
 	}
 	return status
-}
-
-func writeFile(r *tool.Run, path string, flags int, text string) api.Errno {
-	x := r.Ask(api.Call{No: api.SysOpen, S: path, A: flags, B: 438})
-	if x.Err != api.OK {
-		return x.Err
-	}
-	err := r.Write(x.N, text)
-	r.Ask(api.Call{No: api.SysClose, A: x.N})
-	return err
 }
 
 func cmp(r *tool.Run) int {

@@ -106,6 +106,11 @@ func (r *Run) Read(path string) (string, api.Errno) {
 	if path == "-" {
 		return r.readAll(0)
 	}
+	return r.ReadPath(path)
+}
+
+// ReadPath gives all bytes of the file at a path, also at the path - .
+func (r *Run) ReadPath(path string) (string, api.Errno) {
 	x := r.Ask(api.Call{No: api.SysOpen, S: path, A: api.OpenRead})
 	if x.Err != api.OK {
 		return "", x.Err
@@ -127,6 +132,17 @@ func (r *Run) readAll(fd int) (string, api.Errno) {
 		}
 		text.WriteString(x.S)
 	}
+}
+
+// WriteFile writes a text to a file, which is made if it isn't there; how is api.OpenCut or api.OpenAppend.
+func (r *Run) WriteFile(path, text string, how, mode int) api.Errno {
+	x := r.Ask(api.Call{No: api.SysOpen, S: path, A: api.OpenWrite | api.OpenCreate | how, B: mode})
+	if x.Err != api.OK {
+		return x.Err
+	}
+	err := r.Write(x.N, text)
+	r.Ask(api.Call{No: api.SysClose, A: x.N})
+	return err
 }
 
 // File is Read; of what can't be read it complains.
