@@ -86,7 +86,7 @@ func (sh *shell) dot(c call) {
 		sh.usage(".")
 		return
 	}
-	text, err := sh.readFile(c.fields[1])
+	text, err := sh.ReadFile(c.fields[1])
 	if err != api.OK {
 		sh.complain(c.fields[1], err)
 		sh.status = 1
@@ -120,7 +120,7 @@ func (sh *shell) cd(c call) {
 		return
 	}
 	sh.status = 0
-	if x := sh.ask(api.Call{No: api.SysChdir, S: dir}); x.Err != api.OK {
+	if x := sh.Ask(api.Call{No: api.SysChdir, S: dir}); x.Err != api.OK {
 		sh.complain(dir, x.Err)
 		sh.status = 1
 	}
@@ -133,7 +133,7 @@ func (sh *shell) waitFor(c call) {
 		sh.usage("wait")
 		return
 	}
-	x := sh.ask(api.Call{No: api.SysWait, A: int(pid)})
+	x := sh.Ask(api.Call{No: api.SysWait, A: int(pid)})
 	if pid != all {
 		sh.status = x.M
 		if x.Err != api.OK {
@@ -142,7 +142,7 @@ func (sh *shell) waitFor(c call) {
 		return
 	}
 	for x.Err == api.OK {
-		x = sh.ask(api.Call{No: api.SysWait, A: all})
+		x = sh.Ask(api.Call{No: api.SysWait, A: all})
 	}
 	sh.status = 0
 }
@@ -150,9 +150,9 @@ func (sh *shell) waitFor(c call) {
 func (sh *shell) umask(c call) {
 	if len(c.fields) == 1 {
 		// The mask is told only by setting another one.
-		mask := sh.ask(api.Call{No: api.SysUmask}).N
-		sh.ask(api.Call{No: api.SysUmask, A: mask})
-		sh.write(1, octet.Octal(mask)+"\n")
+		mask := sh.Ask(api.Call{No: api.SysUmask}).N
+		sh.Ask(api.Call{No: api.SysUmask, A: mask})
+		sh.Write(1, octet.Octal(mask)+"\n")
 		sh.status = 0
 		return
 	}
@@ -161,7 +161,7 @@ func (sh *shell) umask(c call) {
 		sh.usage("umask")
 		return
 	}
-	sh.ask(api.Call{No: api.SysUmask, A: mask})
+	sh.Ask(api.Call{No: api.SysUmask, A: mask})
 	sh.status = 0
 }
 
@@ -184,7 +184,7 @@ func (sh *shell) tellKnown(name string) {
 	_, isFunction := sh.functions[name]
 	known := work != nil || isFunction || isUtility(name)
 	if known {
-		sh.write(1, name+"\n")
+		sh.Write(1, name+"\n")
 	}
 	sh.status = statusIf(known)
 }

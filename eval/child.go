@@ -4,6 +4,7 @@ import (
 	"iter"
 
 	"shyard/api"
+	"shyard/asker"
 )
 
 // child gives the program of a child that does a work. The shell as it is now is
@@ -12,12 +13,15 @@ func (sh *shell) child(work func(c *shell)) iter.Seq[*api.Ask] {
 	now := sh.copy()
 	return func(yield func(*api.Ask) bool) {
 		c := now.copy()
-		c.gate = gate{yield: yield, asked: true}
+		c.Asker, c.ticked = asker.New(yield), never
 		c.closeSaved()
 		work(c)
 		c.exit()
 	}
 }
+
+// never is no number of calls: the first command needs none ahead.
+const never = -1
 
 // fork has a child do a work; false, if there can't be one: that is fatal.
 func (sh *shell) fork(work func(c *shell)) (int, bool) {
@@ -30,18 +34,18 @@ func (sh *shell) fork(work func(c *shell)) (int, bool) {
 
 func (sh *shell) start(p iter.Seq[*api.Ask]) (int, api.Errno) {
 	a := &api.Ask{Call: api.Call{No: api.SysFork}, Child: p}
-	sh.pass(a)
+	sh.Pass(a)
 	return a.Result.N, a.Result.Err
 }
 
 // wait waits for a child, and gives its status.
 func (sh *shell) wait(pid int) int {
-	return sh.ask(api.Call{No: api.SysWait, A: pid}).M
+	return sh.Ask(api.Call{No: api.SysWait, A: pid}).M
 }
 
 // newPipe makes a pipe whose ends stand where no child wants its own input and outputs.
 func (sh *shell) newPipe() (int, int, api.Errno) {
-	x := sh.ask(api.Call{No: api.SysPipe})
+	x := sh.Ask(api.Call{No: api.SysPipe})
 	if x.Err != api.OK {
 		return 0, 0, x.Err
 	}
@@ -60,8 +64,8 @@ func (sh *shell) raise(fd int) (int, api.Errno) {
 	if fd > 2 {
 		return fd, api.OK
 	}
-	x := sh.ask(api.Call{No: api.SysDup, A: fd, B: own})
-	sh.close(fd)
+	x := sh.Ask(api.Call{No: api.SysDup, A: fd, B: own})
+	sh.Close(fd)
 	return x.N, x.Err
 }
 
@@ -100,7 +104,7 @@ func (sh *shell) stages(kids []api.Node) {
 // closeOpen and moveOpen do nothing of a descriptor that there isn't.
 func (sh *shell) closeOpen(fd int) {
 	if fd >= 0 {
-		sh.close(fd)
+		sh.Close(fd)
 	}
 }
 

@@ -16,7 +16,7 @@ type flow struct {
 }
 
 func (sh *shell) goesOn() bool {
-	return sh.flow.to == next
+	return sh.flow.to == next && !sh.Gone()
 }
 
 // end ends the shell with a status.

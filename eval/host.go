@@ -58,7 +58,7 @@ func (sh *shell) Vars() []api.Var {
 
 // Paths gives the paths that a pattern matches.
 func (sh *shell) Paths(p []api.Char) []string {
-	return sh.ask(api.Call{No: api.SysGlob, P: p}).List
+	return sh.Ask(api.Call{No: api.SysGlob, P: p}).List
 }
 
 // Command gives what a text's commands say, run by a child.
@@ -68,16 +68,16 @@ func (sh *shell) Command(text string) (string, api.Errno) {
 		return "", err
 	}
 	pid, err := sh.start(sh.child(func(c *shell) {
-		c.close(reads)
+		c.Close(reads)
 		c.move(writes, 1)
 		c.text(text, true)
 	}))
 	if err != api.OK {
 		return "", err
 	}
-	sh.close(writes)
-	said, err := sh.readAll(reads)
-	sh.close(reads)
+	sh.Close(writes)
+	said, err := sh.ReadAll(reads)
+	sh.Close(reads)
 	sh.taken = taken{true, sh.wait(pid)}
 	return said, err
 }

@@ -84,7 +84,7 @@ func (sh *shell) turn(r api.Redir, fd int, text string) api.Errno {
 	case "<>":
 		c.A = api.OpenRead | api.OpenWrite | api.OpenCreate
 	}
-	x := sh.ask(c)
+	x := sh.Ask(c)
 	if x.Err == api.OK {
 		sh.move(x.N, fd)
 	}
@@ -95,16 +95,16 @@ func (sh *shell) turn(r api.Redir, fd int, text string) api.Errno {
 func (sh *shell) same(fd int, text string) api.Errno {
 	switch {
 	case text == "-":
-		sh.close(fd)
+		sh.Close(fd)
 		return api.OK
 	case len(text) != 1 || text[0] < '0' || text[0] > '9':
 		return api.EBADF
 	}
-	return sh.ask(api.Call{No: api.SysDup2, A: int(text[0] - '0'), B: fd}).Err
+	return sh.Ask(api.Call{No: api.SysDup2, A: int(text[0] - '0'), B: fd}).Err
 }
 
 func (sh *shell) save(fd int) (save, api.Errno) {
-	x := sh.ask(api.Call{No: api.SysDup, A: fd, B: own})
+	x := sh.Ask(api.Call{No: api.SysDup, A: fd, B: own})
 	switch x.Err {
 	case api.OK:
 		sh.saved = append(sh.saved, x.N)
@@ -122,7 +122,7 @@ func (sh *shell) restore(saves []save) {
 	}
 	for _, s := range slices.Backward(saves) {
 		if s.at < 0 {
-			sh.close(s.fd)
+			sh.Close(s.fd)
 		} else {
 			sh.move(s.at, s.fd)
 			sh.forget(s.at)
@@ -134,7 +134,7 @@ func (sh *shell) restore(saves []save) {
 func (sh *shell) settle(saves []save) {
 	for _, s := range saves {
 		if s.at >= 0 {
-			sh.close(s.at)
+			sh.Close(s.at)
 			sh.forget(s.at)
 		}
 	}
@@ -147,7 +147,7 @@ func (sh *shell) forget(at int) {
 // closeSaved lets go what was kept to be restored: a child, or another program, doesn't restore it.
 func (sh *shell) closeSaved() {
 	for _, fd := range sh.saved {
-		sh.close(fd)
+		sh.Close(fd)
 	}
 	sh.saved = nil
 }

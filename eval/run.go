@@ -54,8 +54,8 @@ func statusIf(yes bool) int {
 
 func (sh *shell) async(n api.Node) {
 	pid, ok := sh.fork(func(c *shell) {
-		c.close(0)
-		c.ask(api.Call{No: api.SysText}) // the least descriptor that is free: 0
+		c.Close(0)
+		c.Ask(api.Call{No: api.SysText}) // the least descriptor that is free: 0
 		c.run(n, true)
 	})
 	if ok {

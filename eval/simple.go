@@ -166,9 +166,9 @@ func utility(fields []string) iter.Seq[*api.Ask] {
 
 // file has this process go on as a new shell that runs a file of commands.
 func (sh *shell) file(path string, args []string) {
-	text, err := sh.readFile(path)
+	text, err := sh.ReadFile(path)
 	if err == api.OK {
-		x := sh.ask(api.Call{No: api.SysStat, S: path})
+		x := sh.Ask(api.Call{No: api.SysStat, S: path})
 		if err = x.Err; err == api.OK && x.Stat.Mode&64 == 0 {
 			err = api.EACCES
 		}

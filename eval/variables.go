@@ -46,7 +46,7 @@ func (sh *shell) tellMarked(mark string, isMarked func(api.Var) bool) {
 		}
 		said.WriteByte('\n')
 	}
-	sh.write(1, said.String())
+	sh.Write(1, said.String())
 }
 
 func (sh *shell) set(c call) {
@@ -58,7 +58,7 @@ func (sh *shell) set(c call) {
 		for _, v := range sh.Vars() {
 			said.WriteString(v.Name + "=" + octet.Quote(v.Value) + "\n")
 		}
-		sh.write(1, said.String())
+		sh.Write(1, said.String())
 		return
 	case args[0] == "--":
 		args = args[1:]
@@ -142,7 +142,7 @@ func (sh *shell) read(c call) {
 func (sh *shell) readLine() (string, bool, api.Errno) {
 	var line strings.Builder
 	for {
-		x := sh.ask(api.Call{No: api.SysRead, B: 1})
+		x := sh.Ask(api.Call{No: api.SysRead, B: 1})
 		if x.Err != api.OK || x.S == "" || x.S == "\n" {
 			return line.String(), x.S == "\n", x.Err
 		}

@@ -1,5 +1,5 @@
-// Package tool is what all utilities have in common: asking the kernel, saying,
-// complaining, options, reading files.
+// Package tool is what all utilities have in common: saying, complaining,
+// options, reading and writing files.
 package tool
 
 import (
@@ -8,6 +8,7 @@ import (
 	"strings"
 
 	"shyard/api"
+	"shyard/asker"
 	"shyard/octet"
 )
 
@@ -19,18 +20,17 @@ const UsageStatus = 2
 
 // Run is a utility that runs.
 type Run struct {
-	Name  string
-	Args  []string // without the name
-	yield func(*api.Ask) bool
-	gone  bool // nobody takes what is asked any more
-	said  []byte
+	Name string
+	Args []string // without the name
+	said []byte
+	*asker.Asker
 }
 
 // Program gives the program that args name; find gives a utility's work, which tells its status.
 func Program(args []string, find func(name string) func(*Run) int) iter.Seq[*api.Ask] {
 	args = slices.Clone(args)
 	return func(yield func(*api.Ask) bool) {
-		r := &Run{yield: yield}
+		r := &Run{Asker: asker.New(yield)}
 		status := NotKnown
 		if len(args) > 0 {
 			if work := find(args[0]); work != nil {
@@ -41,16 +41,6 @@ func Program(args []string, find func(name string) func(*Run) int) iter.Seq[*api
 		r.Flush()
 		r.Ask(api.Call{No: api.SysExit, A: status})
 	}
-}
-
-// Ask asks the kernel. When nobody takes that any more, all is refused, so that the work comes to its end.
-func (r *Run) Ask(c api.Call) api.Result {
-	a := &api.Ask{Call: c}
-	if r.gone || !r.yield(a) {
-		r.gone = true
-		return api.Result{Err: api.EIO}
-	}
-	return a.Result
 }
 
 // Say has a text said behind what was said before. It is written at the latest
@@ -70,18 +60,6 @@ func (r *Run) Flush() {
 	s := string(r.said)
 	r.said = r.said[:0]
 	r.Write(1, s)
-}
-
-// Write writes all of a text to a descriptor, if it can.
-func (r *Run) Write(fd int, s string) api.Errno {
-	for s != "" {
-		x := r.Ask(api.Call{No: api.SysWrite, A: fd, S: s})
-		if x.Err != api.OK {
-			return x.Err
-		}
-		s = s[min(max(x.N, 0), len(s)):]
-	}
-	return api.OK
 }
 
 // Tell complains: of what, in a line that begins with the utility's name.
@@ -104,34 +82,9 @@ func (r *Run) Usage() int {
 // Read gives all bytes of a file, or, of - , of the input.
 func (r *Run) Read(path string) (string, api.Errno) {
 	if path == "-" {
-		return r.readAll(0)
+		return r.ReadAll(0)
 	}
-	return r.ReadPath(path)
-}
-
-// ReadPath gives all bytes of the file at a path, also at the path - .
-func (r *Run) ReadPath(path string) (string, api.Errno) {
-	x := r.Ask(api.Call{No: api.SysOpen, S: path, A: api.OpenRead})
-	if x.Err != api.OK {
-		return "", x.Err
-	}
-	text, err := r.readAll(x.N)
-	r.Ask(api.Call{No: api.SysClose, A: x.N})
-	return text, err
-}
-
-func (r *Run) readAll(fd int) (string, api.Errno) {
-	var text strings.Builder
-	for {
-		x := r.Ask(api.Call{No: api.SysRead, A: fd, B: api.MaxBytes})
-		if x.Err != api.OK {
-			return "", x.Err
-		}
-		if x.S == "" {
-			return text.String(), api.OK
-		}
-		text.WriteString(x.S)
-	}
+	return r.ReadFile(path)
 }
 
 // WriteFile writes a text to a file, which is made if it isn't there; how is api.OpenCut or api.OpenAppend.
@@ -141,7 +94,7 @@ func (r *Run) WriteFile(path, text string, how, mode int) api.Errno {
 		return x.Err
 	}
 	err := r.Write(x.N, text)
-	r.Ask(api.Call{No: api.SysClose, A: x.N})
+	r.Close(x.N)
 	return err
 }
 

@@ -81,7 +81,7 @@ func cp(r *tool.Run) int {
 
 // copied reads all of FROM ahead of opening the target, which may be the same file.
 func copied(r *tool.Run, from, to string) bool {
-	text, err := r.ReadPath(from)
+	text, err := r.ReadFile(from)
 	if err != api.OK {
 		r.Complain(from, err)
 		return false
