@@ -107,10 +107,7 @@ func grep(r *tool.Run) int {
 		return r.Usage()
 	}
 	path, _ := only(operands[1:])
-	text, ok := r.File(path)
-	if !ok {
-		return 2
-	}
+	text, wasRead := r.File(path)
 	count := 0
 	counts := tool.Given(options, 'c')
 	for line := range lines(text) {
@@ -125,7 +122,10 @@ func grep(r *tool.Run) int {
 	if counts {
 		r.SayLine(octet.Decimal(int64(count)))
 	}
-	if count == 0 {
+	switch {
+	case !wasRead:
+		return 2
+	case count == 0:
 		return 1
 	}
 	return 0
