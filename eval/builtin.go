@@ -44,6 +44,15 @@ func builtin(name string) (func(*shell, call), bool) {
 	return nil, false
 }
 
+// number reads a built-in's only argument; what there is without one; false, if it isn't as told.
+func number(fields []string, without, least int64) (int64, bool) {
+	if len(fields) == 1 {
+		return without, true
+	}
+	n, ok := octet.Number(fields[1])
+	return n, ok && n >= least && len(fields) == 2
+}
+
 func (sh *shell) leaveLoop(c call) {
 	n, ok := number(c.fields, 1, 1)
 	if !ok {

@@ -62,12 +62,3 @@ func (sh *shell) async(n api.Node) {
 		sh.left, sh.status = pid, 0
 	}
 }
-
-func (sh *shell) define(n api.Node) {
-	if _, there := sh.functions[n.Name]; !there && len(sh.functions) >= api.MaxVars {
-		sh.fatal(n.Name, api.ErrVars)
-		return
-	}
-	sh.functions[n.Name] = n.Kids[0]
-	sh.status = 0
-}
