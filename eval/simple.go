@@ -76,7 +76,7 @@ func (sh *shell) assignAlone(l []string) {
 		return
 	}
 	sh.status = 0
-	if sh.taken.any {
+	if sh.taken.there {
 		sh.status = sh.taken.status
 	}
 }
