@@ -110,6 +110,16 @@ func TestRefused(t *testing.T) {
 			}
 		}
 	}
+	// What is asked of the directory comes ahead of what is asked of the last piece.
+	f.Chmod(1, 0)
+	for name, call := range calls {
+		for _, path := range []string{"/", "/.", "/a", "/" + long} {
+			if err := call(2, path); err != api.EACCES {
+				t.Errorf("%s %.40q: %d", name, path, err)
+			}
+		}
+	}
+	f.Chmod(1, 493)
 	for i, c := range []struct{ got, want api.Errno }{
 		{create(1, "a/"), api.EISDIR}, {create(1, "h/"), api.EISDIR}, {create(1, "d/"), api.EISDIR}, {create(11, "a/"), api.EISDIR}, {create(1, "h"), api.EEXIST}, {create(1, "d"), api.EEXIST}, {create(1, "fixed/y"), api.EEXIST}, {create(11, "a"), api.ENOENT}, {create(1, "fixed/a"), api.EACCES},
 		{mkdir(1, "h"), api.EEXIST}, {mkdir(1, "h/"), api.EEXIST}, {mkdir(1, "d/"), api.EEXIST}, {mkdir(11, "a"), api.ENOENT}, {mkdir(1, "fixed/a/"), api.EACCES},

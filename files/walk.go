@@ -73,13 +73,10 @@ func (f *FS) walkAhead(dir int, path string) (int, string, api.Errno) {
 		}
 		last = piece
 	}
-	if last == "" {
-		return 0, "", api.EINVAL
-	}
 	if err := f.enter(at); err != api.OK {
 		return 0, "", err
 	}
-	if last == "." || last == ".." {
+	if last == "" || last == "." || last == ".." {
 		return 0, "", api.EINVAL
 	}
 	if len(last) > api.MaxName {
