@@ -108,13 +108,7 @@ func divide(operator string, x, y int64) (int64, api.Errno) {
 	if y == 0 {
 		return 0, api.ErrZero
 	}
-	if y == -1 {
-		// The least number has no opposite: it wraps to itself.
-		if operator == "/" {
-			return -x, api.OK
-		}
-		return 0, api.OK
-	}
+	// The language has the least number divided by -1 wrap, as is asked for.
 	if operator == "/" {
 		return x / y, api.OK
 	}

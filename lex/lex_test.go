@@ -72,13 +72,13 @@ func TestTokensOfLines(t *testing.T) {
 		"<<<<->><&>&<>>|<>()": "o:<< o:<<- o:>> o:<& o:>& o:<> o:>| o:<> o:( o:)",
 		"&&&|||;;;<<<>>>":     "o:&& o:& o:|| o:| o:;; o:; o:<< o:<> o:>>",
 		"&>a":                 "o:& o:> w:a",
-		"2>a 2 >b 12<c a2>d":  "d:2 o:> w:a w:2 o:> w:b d:12 o:< w:c w:a2 o:> w:d",
-		"2>&1 2|b '2'>c":      "d:2 o:>& w:1 w:2 o:| w:b w:'2' o:> w:c",
-		"2\\\n>a":             "w:2\\\n o:> w:a",
-		"2>>a 0<<E\nE\n":      "d:2 o:>> w:a d:0 o:<< w:E n",
-		"!{}=[]*?~%^,.:@+-/":  "w:!{}=[]*?~%^,.:@+-/",
-		"\xff\x00\x0b\r":      "w:\xff\x00\x0b\r",
-		"a'":                  "",
+		"9<a 0>b 19>c":        "d:9 o:< w:a d:0 o:> w:b d:19 o:> w:c", "2>a 2 >b 12<c a2>d": "d:2 o:> w:a w:2 o:> w:b d:12 o:< w:c w:a2 o:> w:d",
+		"2>&1 2|b '2'>c":     "d:2 o:>& w:1 w:2 o:| w:b w:'2' o:> w:c",
+		"2\\\n>a":            "w:2\\\n o:> w:a",
+		"2>>a 0<<E\nE\n":     "d:2 o:>> w:a d:0 o:<< w:E n",
+		"!{}=[]*?~%^,.:@+-/": "w:!{}=[]*?~%^,.:@+-/",
+		"\xff\x00\x0b\r":     "w:\xff\x00\x0b\r",
+		"a'":                 "",
 	} {
 		l, _, _, err := lex.Line(s, 0)
 		if got := short(l); got != want || (err != api.OK) != (s == "a'") {
@@ -176,7 +176,7 @@ func TestEnd(t *testing.T) {
 		{"'a'", -1, 0, false, 0, 0, api.OK}, {"'a'", 3, 0, false, 0, 0, api.OK}, {"'a'", 4, 0, false, 0, 0, api.OK}, {"'a'", 0, -1, false, 0, 0, api.OK}, {"'a'", 0, 25, false, 0, 0, api.OK},
 		{"'a'", math.MaxInt, math.MinInt, false, 0, 0, api.OK}, {"'a'", 0, 24, false, 3, 0, api.OK}, {`"a"`, 0, 24, false, 0, 0, api.ErrNest}, {` "a"`, 1, 24, false, 0, 1, api.ErrNest},
 		{`"a"`, 0, 23, false, 3, 0, api.OK}, {`"$()"`, 0, 23, false, 0, 1, api.ErrNest}, {"'a", 0, 0, false, 0, 0, api.ErrQuote}, {` "a`, 1, 0, false, 0, 1, api.ErrQuote},
-		{"x$(`)", 1, 0, false, 0, 3, api.ErrBad}, {"'" + rep("a", 5000) + "'", 0, 0, false, 5002, 0, api.OK},
+		{"x$(`)", 1, 0, false, 0, 3, api.ErrBad}, {"''" + rep("a", api.MaxText-2), 0, 0, false, 2, 0, api.OK}, {"''" + rep("a", api.MaxText-1), 0, 0, false, 0, 0, api.ErrText}, {"'" + rep("a", 5000) + "'", 0, 0, false, 5002, 0, api.OK},
 	} {
 		next, place, err := lex.End(c.s, c.at, c.depth, c.quoted)
 		if next != c.next || place != c.place || err != c.err {

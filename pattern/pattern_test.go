@@ -26,7 +26,7 @@ func TestMatch(t *testing.T) {
 		{"[!c-a]", "b", true}, {"[a-c-e]", "d", false}, {"[a-c-e]", "-", true}, {"[a-c-e]", "e", true},
 		{`[\]]`, "]", true}, {`[\!a]`, "!", true}, {`[a\-c]`, "b", false}, {`[a\-c]`, "-", true}, {`[a-\]]`, "]", false},
 		{`[A-\]]`, "B", true}, {`[a\]`, "[a]", true}, {"[*]", "*", true}, {"[*]", "a", false}, {"[?]x", "ax", false},
-		{"[[]", "[", true}, {"a]", "a]", true}, {"[a]]", "a]", true}, {"[/-9]", "0", true},
+		{"[[]", "[", true}, {"a]", "a]", true}, {"[a]]", "a]", true}, {"[/-9]", "0", true}, {"[][:alpha:", "[][:alpha:", true}, {"[][:alpha:", "]", false}, {"][", "][", true}, {"]", "]", true},
 		{"?", "\xff", true}, {"[\x80-\xff]", "\xe9", true}, {"[!a]", "\x00", true}, {"??", "é", true},
 	} {
 		if got := pattern.Match(pattern.Of(c.p), c.s); got != c.want {

@@ -95,7 +95,9 @@ func TestErrors(t *testing.T) {
 		{"$((${}))", 0, api.ErrBad}, {"$((${x))", 0, api.ErrQuote}, {"$(${})", 0, api.OK}, {"${x:-${y:}}", 0, api.ErrBad},
 		{rep("$(", 24) + rep(")", 24), 0, api.OK}, {rep("$(", 25) + rep(")", 25), 0, api.ErrNest}, {rep("${x:-", 24) + rep("}", 24), 0, api.OK}, {rep("${x:-", 25) + rep("}", 25), 0, api.ErrNest},
 		{rep("$((", 24) + "1" + rep("))", 24), 0, api.OK}, {rep("$((", 25) + "1" + rep("))", 25), 0, api.ErrNest}, {rep(`"${x:-`, 12) + rep(`}"`, 12), 0, api.OK}, {rep("${x:-", 24) + `"` + rep("}", 24), 1, api.ErrNest},
-		{rep("${x:-", 24) + "''" + rep("}", 24), 0, api.OK}, {"${}" + rep("$(", 25), 0, api.ErrBad},
+		{rep("${x:-", 24) + "''" + rep("}", 24), 0, api.OK},
+		// What single quotes hide from layer 4 is seen within an expression.
+		{`"$(('` + rep("$(", 22) + rep(")", 22) + `'))"`, 0, api.OK}, {`"$(('` + rep("$(", 23) + rep(")", 23) + `'))"`, 0, api.ErrNest}, {"${x:-$(('" + rep("$(", 23) + rep(")", 23) + "'))}", 0, api.ErrNest}, {"${}" + rep("$(", 25), 0, api.ErrBad},
 	} {
 		l, err := word.Parts(c.s, c.kind)
 		if err != c.err || err != api.OK && len(l) != 0 {
