@@ -204,6 +204,9 @@ func TestChanges(t *testing.T) {
 	if got := seen(f); !strings.HasPrefix(got, "b:2:511:\nb/g:1:256:\nb,1,2,493,1,1,,/,0\n") {
 		t.Error(got)
 	}
+	if !f.May(1, 1) || !f.May(1, 7) || f.May(6, 1) || f.May(6, 7) || f.May(1, 0) || f.May(1, 8) || f.May(1, -1) {
+		t.Error("May")
+	}
 	for want, c := range map[int][2]int{0: {6, 2}, 1: {6, 4}, 2: {6, 0}, 3: {6, 8}, 4: {3, 7}, 5: {1, 5}, 6: {99, 4}, 7: {6, -4}, 8: {6, 12}, 9: {3, math.MinInt}} {
 		if may := f.May(c[0], c[1]); may != (want == 1 || want == 4 || want == 5) {
 			t.Error(c, may)
@@ -274,6 +277,10 @@ func TestBytes(t *testing.T) {
 	if err := f.Truncate(3, 65536-4); err != 0 {
 		t.Error(err)
 	}
+	f.Truncate(2, 0)
+	if err := f.Truncate(3, 65536); err != 0 || f.Bytes() != 65536 {
+		t.Error(err)
+	}
 }
 
 // P8.1: List, Path, Tree.
@@ -335,6 +342,28 @@ func TestTold(t *testing.T) {
 	}
 	if !slices.Equal(paths, []string{"c", "d", "d/e", "fixed", "fixed/y", "locked", "locked/x"}) {
 		t.Error(paths)
+	}
+}
+
+// P8.1: a directory that goes while the tree is gone through: what is behind it is told.
+func TestTreeMeanwhile(t *testing.T) {
+	f := files.New()
+	f.Mkdir(1, "d", 511)
+	for _, path := range []string{"d/a", "d/b", "d/c", "e"} {
+		f.Create(1, path, 0)
+	}
+	var l []string
+	for e := range f.Tree() {
+		l = append(l, e.Path)
+		if e.Path == "d/a" {
+			for _, path := range []string{"d/a", "d/b", "d/c"} {
+				f.Unlink(1, path)
+			}
+			f.Rmdir(1, "d")
+		}
+	}
+	if !slices.Equal(l, []string{"d", "d/a", "e"}) {
+		t.Error(l)
 	}
 }
 

@@ -33,11 +33,11 @@ func (s *store[T]) cut(n int) {
 	s.slots[n-1] = nil
 }
 
-// all gives what lies in the slots, by their numbers.
-func (s *store[T]) all() iter.Seq2[int, *T] {
-	return func(yield func(int, *T) bool) {
-		for i, x := range s.slots {
-			if x != nil && !yield(i+1, x) {
+// all gives what lies in the slots, in their order.
+func (s *store[T]) all() iter.Seq[*T] {
+	return func(yield func(*T) bool) {
+		for _, x := range s.slots {
+			if x != nil && !yield(x) {
 				return
 			}
 		}
