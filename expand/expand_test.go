@@ -243,12 +243,20 @@ func TestErrors(t *testing.T) {
 	if s, _, err := expand.One(fresh(), rep("$huge", 13000), 0); s != "" || err != api.ErrFields {
 		t.Error(len(s), err)
 	}
+	h := fresh()
+	h.args = []string{huge[:32768], huge[:32767]}
+	h.vars["most"], h.vars["more"] = big[:4096], big[:4097]
+	for s, want := range map[string]api.Errno{"$@": 0, "$@.": api.ErrFields, "$@$1": api.ErrFields, "${most%b}": 0, "${more%b}": api.ErrFields, "${more%%x}": api.ErrFields} {
+		if _, _, err := expand.One(h, s, 0); err != want {
+			t.Error(s, err)
+		}
+	}
 	for s, want := range map[string]api.Errno{"many*": 0, "${y:-many* many*}": 0, "${y:-many* many* a}": api.ErrFields, `"$@"`: 0} {
 		if l, _, err := expand.Fields(fresh(), s); err != want || err != 0 && l != nil {
 			t.Error(s, len(l), err)
 		}
 	}
-	h := fresh()
+	h = fresh()
 	h.args = strings.Split(rep("a ", 199)+"a", " ")
 	if l, _, err := expand.Fields(h, `"$@"`); len(l) != 200 || err != 0 {
 		t.Error(len(l), err)

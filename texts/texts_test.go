@@ -87,7 +87,7 @@ func TestHeadAndTail(t *testing.T) {
 // P17.1: wc.
 func TestWc(t *testing.T) {
 	check(t, []row{
-		{"wc", "a b\n", "1 2 4\n", "", 0}, {"wc", "", "0 0 0\n", "", 0}, {"wc|f", "", "3 5 10\n", "", 0}, {"wc|-l|f", "", "3\n", "", 0}, {"wc|-w|f", "", "5\n", "", 0}, {"wc|-c|f", "", "10\n", "", 0}, {"wc|-c|-l|f", "", "3 10\n", "", 0}, {"wc|-w|-w|-l|-c|f", "", "3 5 10\n", "", 0}, {"wc", " \t\v\f\ra\x00b\xff \n\nc\x08d\x0e", "2 2 16\n", "", 0}, {"wc|-lw", "", "", "wc: usage\n", 2}, {"wc|-x", "", "", "wc: usage\n", 2}, {"wc|f|g", "", "", "wc: usage\n", 2}, {"wc|none", "", "0 0 0\n", "wc: none: 2\n", 1}, {"wc|-l|d", "", "0\n", "wc: d: 21\n", 1},
+		{"wc", "a b\n", "1 2 4\n", "", 0}, {"wc", "", "0 0 0\n", "", 0}, {"wc|f", "", "3 5 10\n", "", 0}, {"wc|-l|f", "", "3\n", "", 0}, {"wc|-w|f", "", "5\n", "", 0}, {"wc|-c|f", "", "10\n", "", 0}, {"wc|-c|-l|f", "", "3 10\n", "", 0}, {"wc|-w|-w|-l|-c|f", "", "3 5 10\n", "", 0}, {"wc", " \t\v\f\ra\x00b\xff \n\nc\x08d\x0e", "2 2 16\n", "", 0}, {"wc|-w", "a\rb\tc\vd\fe\bf\x0eg", "5\n", "", 0}, {"wc|-lw", "", "", "wc: usage\n", 2}, {"wc|-x", "", "", "wc: usage\n", 2}, {"wc|f|g", "", "", "wc: usage\n", 2}, {"wc|none", "", "0 0 0\n", "wc: none: 2\n", 1}, {"wc|-l|d", "", "0\n", "wc: d: 21\n", 1},
 	})
 }
 
@@ -115,7 +115,7 @@ func TestGrepAndCut(t *testing.T) {
 		{"grep|x|f", "", "b x\nb x\n", "", 0}, {"grep|x", "y", "", "", 1}, {"grep|-v|x|f", "", "a\n\n", "", 0}, {"grep|-c|x|f", "", "2\n", "", 0}, {"grep|-c|-v|x|f", "", "2\n", "", 0}, {"grep|-c|z|f", "", "0\n", "", 1}, {"grep||f", "", "b x\na\n\nb x\n", "", 0}, {"grep|-v||f", "", "", "", 1}, {"grep|a\nb", "a\nb\n", "", "", 1}, {"grep|--|-v", "a\n-v\n", "-v\n", "", 0}, {"grep|-|-", "a-b\nc", "a-b\n", "", 0}, {"grep|x", "", "", "", 1}, {"grep|.", "a\n.\n", ".\n", "", 0},
 		{"grep", "", "", "grep: usage\n", 2}, {"grep|-v", "", "", "grep: usage\n", 2}, {"grep|a|b|c", "", "", "grep: usage\n", 2}, {"grep|-i|a", "", "", "grep: usage\n", 2}, {"grep|x|none", "", "", "grep: none: 2\n", 2}, {"grep|-c|x|d", "", "0\n", "grep: d: 21\n", 2}, {"grep|-v|x|no", "", "", "grep: no: 13\n", 2},
 		{"cut|-d|:|-f|2", "a:b:c\n", "b\n", "", 0}, {"cut|-f|2", "a\tb\nc\n", "b\nc\n", "", 0}, {"cut|-f|3|-d|:", "a:b\na:b:c:d\n::", "\nc\n\n", "", 0}, {"cut|-d|,|-d|:|-f|9|-f|1", "a,b:c", "a,b\n", "", 0}, {"cut|-f|9223372036854775807|-d| |f", "", "\na\n\n\n", "", 0}, {"cut|-d|-|-f|2", "a-b", "b\n", "", 0}, {"cut|-f|1|-d|\n", "a\nb\n", "a\nb\n", "", 0}, {"cut|-f|1", "", "", "", 0}, {"cut|-d|--|-f|1", "", "", "cut: usage\n", 2},
-		{"cut", "", "", "cut: usage\n", 2}, {"cut|-d|:", "", "", "cut: usage\n", 2}, {"cut|-f|0", "", "", "cut: usage\n", 2}, {"cut|-f|x", "", "", "cut: usage\n", 2}, {"cut|-f|-1", "", "", "cut: usage\n", 2}, {"cut|-f", "", "", "cut: usage\n", 2}, {"cut|-d||-f|1", "", "", "cut: usage\n", 2}, {"cut|-d|ab|-f|1", "", "", "cut: usage\n", 2}, {"cut|-f|1|f|g", "", "", "cut: usage\n", 2}, {"cut|-f1", "", "", "cut: usage\n", 2}, {"cut|-f|1|none", "", "", "cut: none: 2\n", 1},
+		{"cut", "", "", "cut: usage\n", 2}, {"cut|-d|:", "", "", "cut: usage\n", 2}, {"cut|-f|0", "", "", "cut: usage\n", 2}, {"cut|-f|x", "", "", "cut: usage\n", 2}, {"cut|-f|0|-f|1", "", "", "cut: usage\n", 2}, {"cut|-d|ab|-d|:|-f|1", "", "", "cut: usage\n", 2}, {"cut|-f|-1", "", "", "cut: usage\n", 2}, {"cut|-f", "", "", "cut: usage\n", 2}, {"cut|-d||-f|1", "", "", "cut: usage\n", 2}, {"cut|-d|ab|-f|1", "", "", "cut: usage\n", 2}, {"cut|-f|1|f|g", "", "", "cut: usage\n", 2}, {"cut|-f1", "", "", "cut: usage\n", 2}, {"cut|-f|1|none", "", "", "cut: none: 2\n", 1},
 	})
 }
 
@@ -125,6 +125,26 @@ func TestOthers(t *testing.T) {
 		{"rev", "abc\n\nxé", "cba\n\n\xa9\xc3x\n", "", 0}, {"rev|f", "", "x b\na\n\nx b\n", "", 0}, {"rev", "", "", "", 0}, {"rev|-x", "", "", "rev: usage\n", 2}, {"rev|f|g", "", "", "rev: usage\n", 2}, {"rev|none", "", "", "rev: none: 2\n", 1}, {"nl", "a\n\nb", "1\ta\n2\t\n3\tb\n", "", 0}, {"nl|g", "", "1\tone\n", "", 0}, {"nl|f|g", "", "", "nl: usage\n", 2}, {"nl|d", "", "", "nl: d: 21\n", 1},
 		{"cmp|g|g", "", "", "", 0}, {"cmp|f|g", "", "f g differ\n", "", 1}, {"cmp|g|-", "one\n", "", "", 0}, {"cmp|-|g", "one", "- g differ\n", "", 1}, {"cmp|-|-", "x", "- - differ\n", "", 1}, {"cmp|e|e", "", "", "", 0}, {"cmp|none|no", "", "", "cmp: none: 2\n", 2}, {"cmp|g|no", "", "", "cmp: no: 13\n", 2}, {"cmp|d|-", "x", "", "cmp: d: 21\n", 2}, {"cmp", "", "", "cmp: usage\n", 2}, {"cmp|f", "", "", "cmp: usage\n", 2}, {"cmp|f|g|e", "", "", "cmp: usage\n", 2}, {"cmp|-s|f|g", "", "", "cmp: usage\n", 2}, {"cmp|--|--|-dash", "", "-- -dash differ\n", "", 1},
 	})
+}
+
+// P17.1: the input is read up to its end, also behind a file that can't be read; by usage not at all.
+func TestInputIsRead(t *testing.T) {
+	for args, want := range map[string]bool{"cmp none -": true, "cmp - none": true, "cmp none g": false, "head -n 0": true, "head -n 0 f": false, "tr a": false, "cat": true, "cat f": false, "tee": true} {
+		k := fresh()
+		k.Run(texts.Program(strings.Fields(args)), "input")
+		read, ended := false, false
+		results := slices.Collect(k.Turn.Results())
+		i := 0
+		for _, c := range k.Turn.Log() {
+			if c.No == api.SysRead && c.A == 0 {
+				read, ended = true, results[i].S == ""
+			}
+			i++
+		}
+		if read != want || ended != want {
+			t.Error(args, read, ended)
+		}
+	}
 }
 
 // P17.1: tee, which writes files.

@@ -109,12 +109,15 @@ func TestDirectories(t *testing.T) {
 	if got := k.Run(trees.Program([]string{"chmod", "000641", "a", "d"}), ""); got.Status != 0 {
 		t.Error(got)
 	}
+	if got := k.Run(trees.Program([]string{"chmod", "777", "b"}), ""); got.Status != 0 {
+		t.Error(got)
+	}
 	k.Run(trees.Program([]string{"mkdir", "n"}), "")
 	modes := map[string]int{}
 	for e := range k.Files().Tree() {
 		modes[e.Path] = e.Mode
 	}
-	if modes["a"] != 417 || modes["d"] != 417 || modes["b"] != 420 || modes["n"] != 493 {
+	if modes["a"] != 417 || modes["d"] != 417 || modes["b"] != 511 || modes["n"] != 493 {
 		t.Error(modes)
 	}
 }

@@ -202,6 +202,21 @@ func TestFork(t *testing.T) {
 	ready(t, x)
 }
 
+// P13.1: only a fork gives a program to the process that is answered.
+func TestNoProgram(t *testing.T) {
+	k := gate.New()
+	x := turn.New(k)
+	k.Call(1, api.Call{No: api.SysFork})
+	x.Start(1, of(say("ab"), api.Call{No: api.SysFork, A: 2}))
+	run(t, x, 1, 2, 2)
+	ready(t, x, 1, 3)
+	next(t, x, 2, api.Call{}, false)
+	if err := x.Start(2, of(tick)); err != api.OK {
+		t.Error(err)
+	}
+	ready(t, x, 1, 2, 3)
+}
+
 // P13.1: a process that was ended by a broken pipe asks nothing more.
 func TestBrokenPipe(t *testing.T) {
 	k := gate.New()
