@@ -75,9 +75,7 @@ func (sh *shell) while(n api.Node) {
 		})
 	}
 	sh.loops--
-	if !sh.leaves() {
-		sh.status = status
-	}
+	sh.status = status
 }
 
 func (sh *shell) forEach(n api.Node) {

@@ -38,8 +38,3 @@ func (sh *shell) loopGoesOn() bool {
 	sh.flow = flow{}
 	return again
 }
-
-// leaves tells whether the shell, or the function at hand, is over, whose status stands.
-func (sh *shell) leaves() bool {
-	return sh.flow.to == returns || sh.flow.to == ends
-}

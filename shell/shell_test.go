@@ -45,7 +45,7 @@ func TestLay(t *testing.T) {
 		{nil, 0, 0, ""}, {pairs("/bin/a", "A", "bin/b", "B"), 0, 0, "bin:2:493: bin/a:1:493:A bin/b:1:493:B"}, {pairs("a", "1", "a", "2", "b", "3"), 1, api.ErrTwice, "a:1:493:1"}, {pairs("///x//y///z", ""), 0, 0, "x:2:493: x/y:2:493: x/y/z:1:493:"}, {pairs("a", "1", "a/b", "2"), 1, api.ErrBoot, "a:1:493:1"}, {pairs("d/a", "1", "d", "2"), 1, api.ErrTwice, "d:2:493: d/a:1:493:1"}, {pairs("d/a", "1", "//d//a", "2"), 1, api.ErrTwice, "d:2:493: d/a:1:493:1"},
 		{pairs("", ""), 0, api.ErrBoot, ""}, {pairs("/", ""), 0, api.ErrBoot, ""}, {pairs("a/", ""), 0, api.ErrBoot, ""}, {pairs(".", ""), 0, api.ErrBoot, ""}, {pairs("a/../b", ""), 0, api.ErrBoot, ""}, {pairs("./a", ""), 0, api.ErrBoot, ""}, {pairs("a/..", ""), 0, api.ErrBoot, ""}, {pairs("...", "", "a", "", ".b", ""), 0, 0, "...:1:493: .b:1:493: a:1:493:"}, {pairs(long+"/..", ""), 0, api.ErrBoot, ""}, {pairs(rep("x/", 200), ""), 0, api.ErrBoot, ""},
 		{pairs(long, ""), 0, api.ETOOLONG, ""}, {pairs("x/"+long+"/y", ""), 0, api.ETOOLONG, ""}, {pairs(rep("/", 256)+"a", ""), 0, api.ETOOLONG, ""}, {pairs(rep("/", 255)+"a", ""), 0, 0, "a:1:493:"}, {pairs(deep[:256], "x"), 0, 0, ""}, {pairs("a", "", "a", "", long, ""), 1, api.ErrTwice, "a:1:493:"}, {pairs("x/a", "", "x/"+long, ""), 1, api.ETOOLONG, "x:2:493: x/a:1:493:"},
-		{pairs("a", rep("x", 65536), "b", ""), 0, 0, "a:1:493:" + rep("x", 20) + " b:1:493:"}, {pairs("a", rep("x", 65537)), 0, api.ENOSPC, ""}, {pairs("a", rep("x", 65535), "d/e/b", "xx", "c", ""), 1, api.ENOSPC, "a:1:493:" + rep("x", 20) + " d:2:493: d/e:2:493:"}, {pairs("a\n*", "\x00\xff"), 0, 0, "a\n*:1:493:\x00\xff"},
+		{pairs("a", rep("x", 65536), "b", ""), 0, 0, "a:1:493:" + rep("x", 20) + " b:1:493:"}, {pairs("a", rep("x", 65537)), 0, api.ENOSPC, ""}, {pairs("a", rep("x", 65535), "d/e/b", "xx", "c", ""), 1, api.ENOSPC, "a:1:493:" + rep("x", 20) + " d:2:493: d/e:2:493:"}, {pairs(long[1:]+"/"+long[1:], ""), 0, 0, long[1:] + ":2:493: " + long[1:] + "/" + long[1:] + ":1:493:"}, {pairs("a\n*", "\x00\xff"), 0, 0, "a\n*:1:493:\x00\xff"},
 	} {
 		f := files.New()
 		place, err := shell.Lay(f, c.pairs)
@@ -193,6 +193,7 @@ func TestReaped(t *testing.T) {
 	k = gate.New()
 	x = turn.New(k)
 	x.Start(1, of(api.Call{No: api.SysFork}, api.Call{No: api.SysWait, A: -1, B: 1}, api.Call{No: api.SysWait, A: 99}, api.Call{No: api.SysWait, A: 2}, api.Call{No: api.SysPid}))
+	x.Run(1, 2) // the child hasn't ended yet
 	run(k, x, 1)
 	if got := reaped(x); got != "[{2 0}]" {
 		t.Error(got)

@@ -3,6 +3,7 @@ package show_test
 import (
 	"math/rand"
 	"reflect"
+	"slices"
 	"strings"
 	"testing"
 
@@ -66,8 +67,13 @@ func TestRefused(t *testing.T) {
 	for range 1 << 16 {
 		chain = of(api.Async, chain)
 	}
+	lists := of(api.List)
+	for range 1 << 16 {
+		lists = of(api.List, lists)
+	}
+	lists.Kids = slices.Repeat(lists.Kids, 60000)
 	for i, n := range []api.Node{
-		{}, {Kind: 15}, {Kind: -1}, simple(), simple(""), simple("a b"), simple("a\nb"), simple("a;"), simple("if"), simple("#a"), simple("a", "'b"), simple("`"), simple("a", "\\"), simple("f", "()"), simple("\n"),
+		lists, of(api.Sub, lists), {}, {Kind: 15}, {Kind: -1}, simple(), simple(""), simple("a b"), simple("a\nb"), simple("a;"), simple("if"), simple("#a"), simple("a", "'b"), simple("`"), simple("a", "\\"), simple("f", "()"), simple("\n"),
 		of(api.Pipe), of(api.Pipe, a), of(api.And), of(api.And, a), of(api.And, a, b, a), of(api.And, a, of(api.And, a, b)), of(api.Or, of(api.List, a, b), a), of(api.Async, a), of(api.List), of(api.List, a), of(api.List, a, of(api.List, a, b)),
 		of(api.Pipe, of(api.Pipe, a, b), a), of(api.Pipe, of(api.And, a, b), a), of(api.Sub), of(api.Sub, a, b), of(api.Sub, of(api.List)), of(api.Sub, of(api.List, a)), of(api.Sub, of(api.Async, a)), of(api.Group, of(api.List, a, of(api.List, a, b))),
 		of(api.If), of(api.If, a), of(api.While, a), of(api.Until, a, b, a), of(api.For, a), {Kind: api.For, Name: "1", Kids: []api.Node{a}}, {Kind: api.For, Name: "x", Words: []string{"y"}, Kids: []api.Node{a}}, {Kind: api.For, Name: "x", In: true, Words: []string{")"}, Kids: []api.Node{a}},

@@ -110,14 +110,14 @@ func TestScript(t *testing.T) {
 	for _, c := range []struct{ text, script, want string }{
 		{"", "", ""}, {"echo hi", "pick 0 1\nout\n", "1 1\n-\n"}, {"echo hi", "pick 0 9\npick 0 99\npick 0 99\npick 0 99\npick 0 99\nout\nout\nreaped\nreaped", ""}, {":", "\n  \n# pick 0 1\n #x\nend", "ok\n"}, {"cat", "type a\\x0ab\nend\ntype c\ntype -\n", "ok\nok\nerror 22\nerror 22\n"}, {"cat", "type " + rep("x", 4097) + "\ntype " + rep("x", 4096) + "\ntype -\ntype x", "error 72\nok\nok\nerror 72\n"},
 		{"", "ready\nprocs\ntree\nreaped\nout\nerr", "1\n1:1\nbin:2:493:- bin/a\\x20\\x5c:1:493:\\x00b\\xff-\nnone\n-\n-\n"}, {"", "  pick   -1    +1  \nready\nprocs\npick 0 0\npick 9 -5", "1 1\n2\n1:1 2:1\n0 0\n0 0\n"},
-		{"", "pick\npick 1\npick 0 1 2\npick x 1\npick 0 9223372036854775808\npick 0 1x\nend x\nout 1\nnothing\ntype\ntype a b\ntype \\\ntype \\x1\ntype \\x1G\ntype \\x0A\ntype \\n\ntype \xc3\xa9\ntype a\tb\nPICK 0 1\npick\t0 1\nerr #\n-\ntree tree", rep("error 73\n", 23)}, {"", "procs\r\nready \nx#\n\t# x", "error 73\n1\nerror 73\nerror 73\n"},
+		{"", "pick\npick 1\npick 0 1 2\npick x 1\npick 0 9223372036854775808\npick 0 1x\nend x\nout 1\nnothing\ntype\ntype a b\ntype \\\ntype \\x1\ntype \\x1G\ntype \\x0A\ntype \\n\ntype \xc3\xa9\ntype a\tb\nPICK 0 1\npick\t0 1\nerr #\n-\ntree tree", rep("error 73\n", 23)}, {"printf '!~|%s' } &", rep("pick -1 99\n", 9) + "out", ""}, {"", "pick 9223372036854775807 1\npick -9223372036854775808 -9223372036854775808\ntype !~\\x7f\\x20\n", "1 1\n0 0\nok\n"}, {"", "procs\r\nready \nx#\n\t# x", "error 73\n1\nerror 73\nerror 73\n"},
 		{"exit 7 & exit 3", "pick 0 9\npick 0 99\npick 0 99\npick 0 99\npick 0 99\npick 0 99\npick 0 99\nprocs\nready", ""},
 	} {
 		got, err := yard.Script([]api.Pair{{Path: "/bin/a \\", Data: "\x00b\xff-"}}, c.text, nil, c.script)
 		if c.want != "" && got != c.want || err != api.OK {
 			t.Errorf("%q: %q %d, want %q", c.script, got, err, c.want)
 		}
-		if c.want == "" && c.script != "" && !strings.Contains(got, "hi\\x0a\n-\n2:0\nnone\n") && !strings.HasSuffix(got, "1:1\nnone\n") {
+		if c.want == "" && c.script != "" && !strings.Contains(got, "hi\\x0a\n-\n2:0\nnone\n") && !strings.HasSuffix(got, "1:1\nnone\n") && !strings.HasSuffix(got, "\n!~|}\n") {
 			t.Errorf("%q: %q", c.script, got)
 		}
 	}
